@@ -1,0 +1,1 @@
+"""Ballastway: loads over bridges that bear so much."""
