@@ -69,6 +69,25 @@ OUTSIDE = [
     "def f(a):\n    try:\n        pass\n    finally:\n        pass",
     "def f(a):\n    with a:\n        pass",
     "def f():\n" + "    pass\n" * 40,
+    "def f():\n    'a text by itself'\n    return 1",
+    "def f(a):\n    b, c = a\n    return b",
+    "from ballastway.errors import BadRow\ndef f(BadRow):\n    pass",
+    "class A:\n    pass\ndef f():\n    A = 1",
+    "from ballastway.errors import BadRow\ndef f():\n    return [BadRow]",
+    "from ballastway.errors import BadRow\ndef f():\n    e = BadRow(1)\n    raise e",
+    "def f(a):\n    b = zip(a, a)\n    return b",
+    "def f(a):\n    return a.items()",
+    "def f(a):\n    return range(a)",
+    "def f(a):\n    b = set(a)\n    return b",
+    "def f(a):\n    for b in set(a):\n        pass",
+    "def f(a):\n    return a.split(sep=' ')",
+    "def f(a):\n    return sorted(a, key=len, reverse=a)",
+    "def f(a):\n    for b in a:\n        a.append(b)",
+    "class A:\n    def __init__(self):\n        self.items = []",
+    "class A:\n    def __init__(self):\n        self.title = 1\nclass B:\n    def title(self):\n        return 1",
+    "x = '\\x41'",
+    "x = [[1], [2]]",
+    "def f(a):\n    return len",
 ]
 
 
@@ -83,6 +102,7 @@ def is_plain(node):
 
 
 def is_text(node):
+    # A file's or class's docstring; one in a function is none of L6's statements.
     return isinstance(node, ast.Expr) and isinstance(node.value, ast.Constant) and isinstance(node.value.value, str)
 
 
@@ -143,8 +163,13 @@ def statement_faults(node):
         yield "L6: an else behind a loop"
     if isinstance(node, ast.Try) and node.finalbody:
         yield "L6: finally"
-    if isinstance(node, ast.Assign) and len(node.targets) != 1:
-        yield "L6: two targets"
+    if isinstance(node, ast.Assign):
+        if len(node.targets) != 1 or isinstance(node.targets[0], (ast.Tuple, ast.List)):
+            yield "L6: two targets"
+    if isinstance(node, ast.FunctionDef) and any(is_text(each) for each in node.body):
+        yield "L6: a text by itself"
+    if isinstance(node, ast.Raise) and not isinstance(node.exc, ast.Call):
+        yield "L19: an error that is not made on the spot"
     if isinstance(node, ast.Expr) and not isinstance(node.value, ast.Call) and not is_text(node):
         yield "L6: a value by itself"
     if isinstance(node, ast.ExceptHandler):
@@ -209,6 +234,131 @@ def call_faults(node, methods):
             yield f"L25: the method {node.func.attr}"
 
 
+def top_names(tree):
+    named = []
+    for node in tree.body:
+        if isinstance(node, ast.ImportFrom):
+            named.extend([each.asname or each.name for each in node.names])
+        if isinstance(node, ast.ClassDef):
+            named.append(node.name)
+    return named
+
+
+def class_names(tree):
+    # A name with a great first letter is a class, here and where it is drawn from; plain values have none but great.
+    return [name for name in top_names(tree) if name[0].isupper() and not name.isupper()]
+
+
+def parents_of(tree):
+    return {child: node for node in ast.walk(tree) for child in ast.iter_child_nodes(node)}
+
+
+def is_call_of(node, names):
+    return isinstance(node, ast.Call) and isinstance(node.func, ast.Name) and node.func.id in names
+
+
+def is_walked(node, above):
+    if isinstance(above, (ast.For, ast.comprehension)) and above.iter is node:
+        return True
+    if isinstance(above, ast.Call) and above.args and above.args[0] is node:
+        if is_call_of(above, ["list", "tuple", "dict", "sorted", "sum", "any", "all", "enumerate", "zip"]):
+            return True
+        if is_call_of(above, ["min", "max"]) and len(above.args) == 1:
+            return True
+        return isinstance(above.func, ast.Attribute) and above.func.attr == "join"
+    return is_call_of(above, ["zip"])
+
+
+def walk_faults(node, above):
+    walks = is_call_of(node, ["zip", "enumerate", "reversed", "range"])
+    if isinstance(node, ast.Call) and isinstance(node.func, ast.Attribute):
+        walks = walks or node.func.attr in ["items", "keys", "values"]
+    if walks and not is_walked(node, above):
+        yield "L23: a walk that is kept"
+    if is_call_of(node, ["set", "frozenset"]):
+        if not isinstance(above, (ast.Compare, ast.BinOp)) and not is_call_of(above, ["sorted", "len"]):
+            yield "L24: a set that is kept"
+
+
+def loop_faults(node):
+    if isinstance(node, ast.For) and isinstance(node.iter, ast.Name):
+        for each in [each for row in node.body for each in ast.walk(row)]:
+            if isinstance(each, ast.Call) and isinstance(each.func, ast.Attribute):
+                changed = isinstance(each.func.value, ast.Name) and each.func.value.id == node.iter.id
+                if changed and each.func.attr in "append clear extend insert pop remove reverse update".split():
+                    yield "L23: what is walked is changed"
+
+
+def use_faults(node, above, classes):
+    if isinstance(node, ast.Name) and isinstance(node.ctx, ast.Load):
+        called = isinstance(above, ast.Call) and above.func is node
+        if node.id in classes:
+            beside = isinstance(above, (ast.ClassDef, ast.ExceptHandler)) or is_call_of(above, ["isinstance"])
+            of_base = isinstance(above, ast.Attribute) and above.attr == "__init__"
+            if not called and not beside and not of_base and not isinstance(above, ast.Tuple):
+                yield f"L18: the class {node.id} is handed on"
+        elif node.id in OWN_OF_PYTHON and not called:
+            beside = isinstance(above, (ast.keyword, ast.ExceptHandler, ast.ClassDef, ast.Tuple))
+            if not beside and not is_call_of(above, ["isinstance"]):
+                yield f"L22: {node.id} is kept"
+
+
+def keyword_faults(node, own):
+    if isinstance(node, ast.Call) and node.keywords:
+        name = node.func.id if isinstance(node.func, ast.Name) else ""
+        allowed = {"sorted": ["key", "reverse"], "min": ["key", "default"], "max": ["key", "default"],
+                   "sum": ["start"], "enumerate": ["start"], "zip": ["strict"]}.get(name, [])
+        for each in node.keywords:
+            if name not in own and each.arg not in allowed:
+                yield f"L22: the keyword {each.arg}"
+            if each.arg in ["reverse", "strict"] and not isinstance(each.value, ast.Constant):
+                yield f"L22: the keyword {each.arg} is not written out"
+
+
+def binding_faults(node, named, above):
+    name = bound_name(node)
+    if name in named and not isinstance(node, (ast.FunctionDef, ast.ClassDef)) and not isinstance(above, ast.Module):
+        yield f"L15: {name} is called like a class or an import"
+
+
+def tree_faults(tree):
+    above = parents_of(tree)
+    named = top_names(tree)
+    classes = class_names(tree)
+    own = [node.name for node in ast.walk(tree) if isinstance(node, ast.FunctionDef)] + named
+    for node in ast.walk(tree):
+        faults = list(walk_faults(node, above.get(node))) + list(loop_faults(node)) + list(keyword_faults(node, own))
+        faults.extend(list(use_faults(node, above.get(node), classes)))
+        faults.extend(list(binding_faults(node, named, above.get(above.get(node)))))
+        for each in faults:
+            yield f"row {getattr(node, 'lineno', 0)}: {each}"
+
+
+def field_faults(tree):
+    methods = own_methods([ast.unparse(tree)])
+    for node in ast.walk(tree):
+        if isinstance(node, ast.Attribute) and isinstance(node.ctx, ast.Store):
+            if node.attr in methods:
+                yield f"L18: {node.attr} is a method and a value"
+            if any(hasattr(kind, node.attr) for kind in [str, int, list, dict, set, bytes, tuple]):
+                if node.attr not in "count index title find get join lower upper split strip copy add".split():
+                    yield f"L26: the value {node.attr}"
+
+
+def top_value_faults(tree):
+    for node in tree.body:
+        if isinstance(node, ast.Assign) and isinstance(node.value, (ast.List, ast.Dict)):
+            held = [each for each in ast.walk(node.value) if isinstance(each, (ast.List, ast.Dict))]
+            if len(held) > 1:
+                yield f"L15: row {node.lineno} has a list within a list"
+
+
+def escape_faults(source):
+    for escape in re.findall(r"\\(.)", source.replace("\\\\", "")):
+        if escape not in "nt'\"":
+            yield f"L27: the escape of {escape}"
+
+
 def node_faults(node, methods):
     kind = node.__class__.__name__
     if kind not in NODES:
@@ -225,7 +375,8 @@ def node_faults(node, methods):
 
 def faults_of(source, methods):
     tree = ast.parse(source)
-    faults = list(file_faults(source)) + list(top_faults(tree))
+    faults = list(file_faults(source)) + list(top_faults(tree)) + list(tree_faults(tree))
+    faults.extend(list(field_faults(tree)) + list(top_value_faults(tree)) + list(escape_faults(source)))
     for node in ast.walk(tree):
         faults.extend([f"row {getattr(node, 'lineno', 0)}: {each}" for each in node_faults(node, methods)])
     return faults
@@ -234,6 +385,14 @@ def faults_of(source, methods):
 def own_methods(sources):
     classes = [node for source in sources for node in ast.walk(ast.parse(source)) if isinstance(node, ast.ClassDef)]
     return [each.name for node in classes for each in node.body if isinstance(each, ast.FunctionDef)]
+
+
+def defined_by(node):
+    if isinstance(node, (ast.FunctionDef, ast.ClassDef)):
+        return [node.name]
+    if isinstance(node, ast.Assign):
+        return [target.id for target in node.targets]
+    return []
 
 
 def sources_of():
@@ -268,6 +427,22 @@ class Language(unittest.TestCase):
             self.assertTrue(free, f"these draw from one another: {sorted(draws)}")
             for name in free:
                 draws.pop(name)
+
+
+    def test_each_name_is_drawn_from_the_file_that_defines_it(self):
+        sources = sources_of()
+        for name, source in sources.items():
+            for node in [node for node in ast.parse(source).body if isinstance(node, ast.ImportFrom)]:
+                defined = [bound for each in ast.parse(sources[node.module.split(".")[1] + ".py"]).body
+                           for bound in defined_by(each)]
+                for each in node.names:
+                    self.assertIn(each.name, defined, name)
+                    used = [use for use in ast.walk(ast.parse(source)) if isinstance(use, ast.Name)]
+                    self.assertIn(each.name, [use.id for use in used], f"{name} does not use it")
+
+    def test_no_name_is_a_method_in_one_class_and_a_value_in_another(self):
+        whole = "\n".join([source for source in sources_of().values()])
+        self.assertEqual(list(field_faults(ast.parse(whole))), [])
 
 
 class Faults(unittest.TestCase):
