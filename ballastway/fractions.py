@@ -73,6 +73,18 @@ def in_order(some):
     return merged(in_order(some[:middle]), in_order(some[middle:]))
 
 
+def common_beneath(some):
+    # The least number of which each number beneath is a part: over it all of them are whole.
+    beneath = 1
+    for fraction in some:
+        beneath = beneath * fraction[1] // common_part(beneath, fraction[1])
+    return beneath
+
+
+def parts_in(fraction, beneath):
+    return fraction[0] * (beneath // fraction[1])
+
+
 def frac_text(fraction):
     above = figures_of(abs(fraction[0]))
     if fraction[0] < 0:

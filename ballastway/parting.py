@@ -1,6 +1,6 @@
 """Which ways a row of wheels may take, and how a load is parted where it fits none of them whole."""
 
-from ballastway.errors import Blocked
+from ballastway.errors import Blocked, NoWay
 from ballastway.loads import Cart, fits
 from ballastway.ways import legs_of, ways_of
 
@@ -15,6 +15,13 @@ def fits_each(bridges, wheels):
 
 def ways_for(road, wheels):
     return [way for way in ways_of(road) if fits_each(bridges_along(road, way), wheels)]
+
+
+def some_ways_for(road, cart):
+    ways = ways_for(road, cart.wheels)
+    if not ways:
+        raise NoWay("a cart fits no way of the road")
+    return ways
 
 
 def refuse_wheels(bridges, wheels):

@@ -43,14 +43,14 @@ def drawn_wheels(draw, most=8, high=40):
     return wheels
 
 
-def drawn_cart(draw, name="load", most=8, high=40):
-    return Cart(name, draw.randint(1, 12), drawn_wheels(draw, most, high))
+def drawn_cart(draw, name="load", most=8, high=40, speeds=(1, 12)):
+    return Cart(name, draw.randint(*speeds), drawn_wheels(draw, most, high))
 
 
-def drawn_road(draw, bridges=None, rounds=None, bears=(30, 120), shuts=3):
+def drawn_road(draw, bridges=None, rounds=None, bears=(30, 120), shuts=3, lengths=(1, 60)):
     """A road on which most drawn carts fit some bridges and not all; rounds and shuts in a drawn order."""
     names = draw.sample(NAMES, bridges or draw.randint(1, 3))
-    told = [(name, draw.randint(1, 60), draw.randint(*bears), draw.randint(1, 30), draw.randint(20, bears[1]))
+    told = [(name, draw.randint(*lengths), draw.randint(*bears), draw.randint(1, 30), draw.randint(20, bears[1]))
             for name in names]
     opens = [draw.randint(200, 260) for _ in range(len(names) + 1)]
     round_names = draw.sample(names, draw.randint(0, len(names)) if rounds is None else rounds)
@@ -59,6 +59,15 @@ def drawn_road(draw, bridges=None, rounds=None, bears=(30, 120), shuts=3):
         begin = draw.randint(0, 120)
         shut.append((draw.choice(names), begin, begin + draw.randint(1, 30)))
     return road_with(told, [(name, draw.randint(1, 200)) for name in round_names], shut, opens)
+
+
+def busy_road(draw, bridges, rounds, shuts=2):
+    """A road with long bridges that bear little: drawn carts of nearly one speed wait for one another there."""
+    return drawn_road(draw, bridges, rounds, (60, 90), shuts, (80, 300))
+
+
+def busy_cart(draw, name="load", most=2):
+    return drawn_cart(draw, name, most, 40, (3, 5))
 
 
 def draws(seed, number):
