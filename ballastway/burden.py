@@ -6,7 +6,7 @@ from ballastway.roads import bridge_of
 
 
 def stays_of(road, crossings, name):
-    # One tuple (on, off, low, high) for each wheel of each crossing of that bridge.
+    # Tuples (on, off, low, high), reckoned once: every sum asks for the times of all wheels.
     stays = []
     for crossing in crossings:
         if crossing[0] == name:

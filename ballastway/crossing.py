@@ -6,7 +6,7 @@ from ballastway.roads import bridge_of
 
 
 def driven(moment, distance, speed):
-    # The moment at which that distance has been driven from the given moment on.
+    # Wheels behind the first, bridges farther on and ends of ways are all later by what is driven until there.
     return plus(moment, made(distance, speed))
 
 

@@ -17,7 +17,7 @@ class Day:
 
 
 def named_rounds(words):
-    # The bridges that a send's row names behind its minute; None where these words are not as told.
+    # No words at all are no rounds; None, apart from that, is for words that are not as told.
     if not words:
         return []
     if words[0] != "round" or len(words) < 2 or not all([is_word(word) for word in words[1:]]):

@@ -16,7 +16,8 @@ def offsets_of(wheels):
 
 
 def span_of(wheels):
-    return offsets_of(wheels)[-1]
+    # The first one's gap counts nothing, as it has no wheel ahead.
+    return sum([wheel[0] for wheel in wheels[1:]])
 
 
 def greatest_sum(weights, offsets, width):
@@ -25,7 +26,7 @@ def greatest_sum(weights, offsets, width):
     for first, offset in enumerate(offsets):
         close = [weights[place] for place in range(first, len(offsets)) if offsets[place] - offset < width]
         sums.append(sum(close))
-    return max(sums)
+    return max(sums, default=0)
 
 
 def heaviest(wheels, width):

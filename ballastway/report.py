@@ -25,7 +25,7 @@ def log_text(log):
 
 
 def bridge_told(words):
-    # The name of the bridge, the empty text where none belongs there; None where the words are not as told.
+    # The empty text is for words with no bridge; None, apart from that, is for what is not as told.
     if len(words) == 3 and words[1] in WITHOUT_BRIDGE:
         return ""
     if len(words) == 4 and words[1] in WITH_BRIDGE and is_word(words[3]):

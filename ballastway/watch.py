@@ -1,6 +1,6 @@
 """The watch: it lets carts onto the bridges one by one, each at the least moment at which nothing is broken."""
 
-from ballastway.burden import stays_of, worst
+from ballastway.burden import stays_of, verdict
 from ballastway.crossing import driven, times_on
 from ballastway.errors import NoWay
 from ballastway.fractions import common_beneath, less, made, parts_in, whole
@@ -26,7 +26,7 @@ def meets_shut(times, shut):
 
 def may_enter(road, crossings, crossing):
     name = crossing[0]
-    if worst(road, crossings + [crossing], name)[2] > bridge_of(road, name).bears:
+    if verdict(road, crossings + [crossing], name)[0] != "safe":
         return False
     for times in times_on(road, crossing):
         if any([meets_shut(times, shut) for shut in shuts_of(road, name)]):

@@ -142,8 +142,14 @@ class Logs(unittest.TestCase):
                          [((50, 1), "off", 2, "a"), ((50, 1), "end", 1, ""), ((50, 1), "start", 0, ""),
                           ((50, 1), "come", 3, "a"), ((50, 1), "on", 3, "a")])
 
+    def test_the_cart_goes_ahead_of_the_bridge(self):
+        loads = [LIGHT, Cart("other", 10, [(1, 0, 5)])]
+        day = Day(ROAD, loads, [(0, 0, (True, True)), (1, 22, (True, True))])
+        self.assertEqual([told[1:] for told in log_of(day) if told[0] == (42, 1)],
+                         [("come", 0, "b"), ("come", 1, "a"), ("on", 0, "b"), ("on", 1, "a")])
+        self.assertEqual([told[1:] for told in log_of(day) if told[0] == (44, 1)], [("off", 0, "b"), ("off", 1, "a")])
+
     def test_alike_words_by_cart(self):
-        day = Day(ROAD, [LONG], [(0, 5, (False, False))])
         road = road_with([("a", 20, 1000, 5, 600), ("b", 20, 1000, 5, 600)])
         loads = [Cart(name, 10, [(1, 0, 5)]) for name in ["x", "y", "z"]]
         day = Day(road, loads, [(2, 0, (True, True)), (0, 0, (True, True)), (1, 0, (True, True))])
