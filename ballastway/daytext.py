@@ -3,16 +3,18 @@
 from ballastway.bounds import MINUTE
 from ballastway.errors import BadRow, NoBridge, NoLoad, Twice
 from ballastway.figures import is_word
+from ballastway.loads import Cart
 from ballastway.loadtext import load_rows, loads_from
-from ballastway.roads import bridges_of, round_of
+from ballastway.roads import Road, bridges_of, round_of
 from ballastway.roadtext import road_from, road_rows
 from ballastway.rows import named_row, row_of, rows_of, words_at
 
 
 class Day:
     def __init__(self, road, loads, sends):
-        self.road = road
-        self.loads = list(loads)
+        # The lists within the road and the loads are copied too: nothing done to them later changes the day.
+        self.road = Road(road.pieces, road.rounds, road.shuts)
+        self.loads = [Cart(load.name, load.speed, load.wheels) for load in loads]
         self.sends = list(sends)
 
 

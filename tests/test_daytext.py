@@ -3,6 +3,7 @@
 import unittest
 from itertools import product
 
+from ballastway.days import log_of
 from ballastway.daytext import Day, day_of, day_text
 from ballastway.errors import BadRow, NoBridge, NoLoad, TooLong, TooNear, Twice
 from ballastway.loads import Cart
@@ -185,14 +186,30 @@ class Kept(unittest.TestCase):
         loads = [Cart("x", 1, [(1, 1, 1)])]
         sends = [(0, 5, (True,))]
         day = Day(road, loads, sends)
-        self.assertIs(day.road, road)
-        self.assertIsNot(day.loads, loads)
-        self.assertIsNot(day.sends, sends)
-        before = day_text(day)
-        loads.clear()
-        sends.clear()
-        self.assertEqual(day_text(day), before)
+        handed = [loads, sends, loads[0].wheels, road.pieces, road.rounds, road.shuts]
+        kept = [day.loads, day.sends, day.loads[0].wheels, day.road.pieces, day.road.rounds, day.road.shuts]
+        self.assertEqual(day_fields(day), (road_fields(road), [("x", 1, [(1, 1, 1)])], [(0, 5, (True,))]))
+        self.assertEqual(len({id(each) for each in handed + kept}), 12)
+        before = (day_text(day), log_of(day))
+        road.shuts.append(("a", 0, 10000))
+        for each in handed:
+            each.clear()
+        self.assertEqual((day_text(day), log_of(day)), before)
         self.assertEqual((len(day.loads), day.sends), (1, [(0, 5, (True,))]))
+
+    def test_two_days_of_the_same_things(self):
+        road = road_with([("a", 10, 100, 5, 50)])
+        loads = [Cart("x", 1, [(1, 1, 1)])]
+        one = Day(road, loads, [(0, 5, (True,))])
+        other = Day(road, loads, [(0, 5, (True,))])
+        before = day_text(other)
+        one.loads[0].wheels.clear()
+        one.loads.clear()
+        one.sends.clear()
+        one.road.pieces.clear()
+        one.road.shuts.append(("a", 0, 1))
+        self.assertEqual(day_text(other), before)
+        self.assertEqual((len(road.pieces), road.shuts, loads[0].wheels), (3, [], [(1, 1, 1)]))
 
     def test_the_same_each_time(self):
         text = "\n".join(DAY)
